@@ -1,0 +1,1 @@
+"""Wheelsky: a sky of even cycles and the works that show it."""
