@@ -5,9 +5,13 @@ import unittest
 from fractions import Fraction
 
 from wheelsky.cycles import Cycle
-from wheelsky.errors import BadValue, Endless, Mismatch, NoName, Taken, TooMany
+from wheelsky.dates import Calendar, TwinCalendar
+from wheelsky.errors import BadValue, Endless, Locked, Looped, Mismatch, NoName, Taken, TooMany
 from wheelsky.mixed import Mixed
+from wheelsky.motions import Motion
+from wheelsky.shafts import Work
 from wheelsky.skies import Sky
+from wheelsky.slots import Slot
 from wheelsky.spans import Span
 
 
@@ -43,7 +47,18 @@ def objects():
         Sky([("a", Cycle((1, 2)))]),
         BadValue("x"),
         Mismatch(),
+        Work([("a", "x", 10), ("b", "y", 20)], [("mesh", "a", "b")], driver="x"),
+        Slot([((0, 1), (1, 2))]),
+        Motion([((1, 1), Cycle((1, 2)), Slot([((0, 1), (0, 1))]))]),
+        Calendar((0, 1), short=29),
+        TwinCalendar(Calendar((0, 1), short=29), Calendar((0,), short=12)),
+        Locked([(0, 1)]),
     ]
+
+
+def objects_but(kind):
+    """Return objects of the package that are not of one class."""
+    return [thing for thing in objects() if not isinstance(thing, kind)]
 
 
 def odd_values():
@@ -52,6 +67,7 @@ def odd_values():
     rows = [[], (), {}, [0], (0,), [1, 2], (1, 2, 3), (True, 1), (1, True), (False, 1), ("1", 1), {"a": 1}]
     rows += [(2, 4), (1, 0), (1, -2), (0, 2), (0, 0), (None, 1), ((1, 2), (1, 2)), {1: 2}, [(1, 2)]]
     rows += [("always",), ("never",), ("every",), ("always", ()), ["always"], ("never", ()), ("every", 1, 2, 3)]
+    rows += [((0, 1), (1, 1)), ((0, 1), (0, 1)), (0, 0, 1), ((0, -1),), [(0, 2)], [(True, 1)], [(0, True)], [0, 1]]
     rows += [((1, 2), ()), ((1, 2), (1,)), [((0, 1), (1, 1), None)], [((0, 1), (1, 1))], [None], [()]]
     deep = [nested(1, 20), nested((1, 2), 19), nested("a", 20), nested(Span((0, 1), (1, 1)), 20)]
     held = [[thing] for thing in objects()] + [(thing, thing) for thing in objects()]
@@ -94,6 +110,9 @@ class SkyCase(unittest.TestCase):
 
     def assert_endless(self, call, *given, **named):
         self.assert_error(Endless, {}, call, *given, **named)
+
+    def assert_looped(self, call, *given, **named):
+        self.assert_error(Looped, {}, call, *given, **named)
 
     def assert_no_name(self, name, call, *given, **named):
         self.assert_error(NoName, {"name": name}, call, *given, **named)

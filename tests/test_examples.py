@@ -14,7 +14,7 @@ class ExamplesTest(unittest.TestCase):
         self.assertGreaterEqual(tried, least)
 
     def test_document(self):
-        self.check(TESTS / "examples.txt", 36)
+        self.check(TESTS / "examples.txt", 76)
 
     def test_readme(self):
-        self.check(TESTS.parent / "README.md", 5)
+        self.check(TESTS.parent / "README.md", 18)

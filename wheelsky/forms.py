@@ -1,6 +1,6 @@
-"""The simplest forms of arguments, and the error for an argument without its form."""
+"""The simplest forms of arguments, and the errors for arguments that do not have them."""
 
-from wheelsky.errors import BadValue
+from wheelsky.errors import BadValue, Taken
 
 LETTERS = "abcdefghijklmnopqrstuvwxyz"
 DIGITS = "0123456789"
@@ -23,8 +23,25 @@ def is_whole_within(value, least, most):
     return is_whole(value) and least <= value <= most
 
 
+def is_list_within(value, least, most):
+    """Tell whether the value is a list of `least` to `most` items."""
+    return isinstance(value, list) and least <= len(value) <= most
+
+
+def is_tuple_of(value, many):
+    """Tell whether the value is a tuple of that many items."""
+    return isinstance(value, tuple) and len(value) == many
+
+
 def is_name(value):
     """Tell whether the value is a name."""
     if not isinstance(value, str) or not 1 <= len(value) <= LONGEST_NAME:
         return False
     return value[0] in LETTERS and all([sign in LETTERS + DIGITS for sign in value])
+
+
+def refuse_repeated(names):
+    """Raise Taken for the first name that stands further ahead already."""
+    for index, name in enumerate(names):
+        if name in names[:index]:
+            raise Taken(name)

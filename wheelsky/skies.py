@@ -2,7 +2,7 @@
 
 from wheelsky.cycles import Cycle
 from wheelsky.errors import NoName, Still, Taken, TooMany
-from wheelsky.forms import is_name, require
+from wheelsky.forms import is_name, refuse_repeated, require
 from wheelsky.ratios import ONE, ZERO, common_measure, is_fraction, over, times
 
 MOST_CYCLES = 8
@@ -13,7 +13,7 @@ class Sky:
 
     def __init__(self, rows):
         require(_are_rows(rows), "rows")
-        _refuse_repeated([name for name, _ in rows])
+        refuse_repeated([name for name, _ in rows])
         self._rows = tuple(rows)
 
     @property
@@ -108,10 +108,3 @@ def _is_row(value):
     if not isinstance(value, tuple) or len(value) != 2:
         return False
     return is_name(value[0]) and isinstance(value[1], Cycle)
-
-
-def _refuse_repeated(names):
-    """Raise Taken for the first name that stands further ahead already."""
-    for index, name in enumerate(names):
-        if name in names[:index]:
-            raise Taken(name)

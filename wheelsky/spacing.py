@@ -12,10 +12,19 @@ def first_from(origin, interval, moment):
     return plus(moment, times(missing, interval))
 
 
+def count_within(origin, interval, span):
+    """Return how many of the moments origin + k * interval are in the span."""
+    return _count_from(first_from(origin, interval, span.first), interval, span.last)
+
+
 def all_within(origin, interval, span):
     """Return all moments origin + k * interval of the span in ascending order, at most 400."""
     first = first_from(origin, interval, span.first)
-    many = floor_of(over(minus(span.last, first), interval)) + 1
+    many = _count_from(first, interval, span.last)
     if many > MOST_MOMENTS:
         raise TooMany(MOST_MOMENTS)
     return [plus(first, times(fraction(number), interval)) for number in range(many)]
+
+
+def _count_from(first, interval, last):
+    return floor_of(over(minus(last, first), interval)) + 1
