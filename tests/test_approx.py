@@ -104,7 +104,8 @@ class ValueOfTest(SkyCase):
 
     def test_forms(self):
         wrong = [(2, 3, 4), None, 2, "2", True, {}, [None], [2, None], [2, 3, True], [True], [2, "3"], [[2]], [2, [3]]]
-        wrong += [[2, 0], [2, -1], [2, 3, 0], [2, 0, 3], [2, 3, -4], [0, 0], [2, 3, 4, 0, 5], [1.0], [2, 3.0]]
+        wrong += [[None, 2], [True, 2], ["2", 3], [2, 0], [2, -1], [2, 3, 0], [2, 0, 3], [2, 3, -4], [0, 0]]
+        wrong += [[2, 3, 4, 0, 5], [1.0], [2, 3.0]]
         wrong += [[thing] for thing in odd_values() if type(thing) is not int]
         for terms in wrong:
             self.assert_bad("terms", value_of, terms)

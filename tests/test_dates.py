@@ -19,7 +19,8 @@ YEARS = Calendar(slow_word(7, 19, 3), short=12)
 TWIN = TwinCalendar(MONTHS, YEARS)
 LITTLE = TwinCalendar(Calendar((0, 1), short=2), Calendar((0, 0, 1), short=2))
 LONGEST = Calendar(slow_word(37, 100, 55), short=1000)
-CALENDARS = [SMALL, MONTHS, YEARS, LONGEST, Calendar((1,), short=1), Calendar((0,), short=1), Calendar((0, 1, 1), short=1)]
+CALENDARS = [SMALL, MONTHS, YEARS, LONGEST]
+CALENDARS += [Calendar((1,), short=1), Calendar((0,), short=1), Calendar((0, 1, 1), short=1)]
 NOT_COUNTS = not_integers() + [-1, -(10 ** 39)]
 
 

@@ -42,8 +42,9 @@ def slow_marks(first, last, begun, ended):
     if begun != ended:
         low, high = sorted((begun, ended))
         for turn in range(math.floor(2 * low), math.ceil(2 * high) + 1):
-            if low <= Fraction(turn, 2) <= high:
-                marks.append((first + (last - first) * (Fraction(turn, 2) - begun) / (ended - begun), Fraction(turn, 2)))
+            value = Fraction(turn, 2)
+            if low <= value <= high:
+                marks.append((first + (last - first) * (value - begun) / (ended - begun), value))
     return sorted(marks + [(last, ended)])
 
 
@@ -117,7 +118,8 @@ class ErrorPaperTest(SkyCase):
         paper = [row_of(0, 1, 0, 1)]
         calls = [lambda a, b, row: error_paper(a, b, row), lambda a, b, row: is_error_paper(a, b, row, paper),
                  lambda a, b, row: is_error_paper(a, b, row, None), lambda a, b, row: greatest_error(a, b, row),
-                 lambda a, b, row: good_until(a, b, row, bound=(1, 2)), lambda a, b, row: good_until(a, b, row, bound=ONE)]
+                 lambda a, b, row: good_until(a, b, row, bound=(1, 2)),
+                 lambda a, b, row: good_until(a, b, row, bound=ONE)]
         for call in calls:
             for row in (span(0, 0), span(0, 1), span(0, 10 ** 30)):
                 # Seven terms together go ahead of the visits.
@@ -225,7 +227,7 @@ class PaperErrorTest(SkyCase):
         self.assertEqual(self.check((2, 3, 0, HALF)), ((1, 2), (3, 1)))
         self.assertEqual(self.check((2, 3, 0, -HALF)), ((1, 2), (3, 1)))
         self.assertEqual(self.check((2, 3, HALF, HALF)), ((1, 2), (2, 1)))
-        self.assertEqual(self.check((2, 3, 0, Fraction(1, 4)), (3, 5, Fraction(1, 4), Fraction(1, 2))), ((1, 2), (5, 1)))
+        self.assertEqual(self.check((2, 3, 0, HALF / 2), (3, 5, HALF / 2, HALF)), ((1, 2), (5, 1)))
 
     def test_below_a_half(self):
         third = Fraction(1, 3)
@@ -265,8 +267,8 @@ class PaperErrorTest(SkyCase):
     def test_each_rule_of_the_form(self):
         right = [row_of(0, 1, 0, HALF), row_of(1, 2, HALF, 3)]
         paper_error(right)
-        wrong = [tuple(right), None, {}, 1, True, "x", right[0], [list(right[0])], [right[0][:3]], [right[0] + ((0, 1),)]]
-        wrong += [[right[0], None], [()], right + [right]]
+        wrong = [tuple(right), None, {}, 1, True, "x", right[0], [list(right[0])], [right[0][:3]]]
+        wrong += [[right[0] + ((0, 1),)], [right[0], None], [()], right + [right]]
         for item in range(4):
             for value in not_fractions():
                 wrong.append([right[0], right[1][:item] + (value,) + right[1][item + 1:]])
@@ -365,7 +367,8 @@ class GoodUntilTest(SkyCase):
         self.assertEqual(good_until(later, turning(1), span(0, 9), bound=(1, 8)), (5, 8))
         # It touches the bound, stays there, and goes on.
         stays = Slot([((0, 1), (0, 1)), ((1, 4), (1, 8)), ((1, 2), (1, 8)), ((3, 4), (1, 4))])
-        self.assertEqual(good_until(Motion([(ONE, Cycle((1, 1)), stays)]), turning(1), span(0, 9), bound=(1, 8)), (1, 2))
+        longer = Motion([(ONE, Cycle((1, 1)), stays)])
+        self.assertEqual(good_until(longer, turning(1), span(0, 9), bound=(1, 8)), (1, 2))
 
     def test_long_numbers(self):
         tiny = Fraction(1, 10 ** 39)

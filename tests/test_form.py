@@ -129,6 +129,12 @@ class FormTest(unittest.TestCase):
             for name in free:
                 del needs[name]
 
+    def test_imported_names_are_used(self):
+        def check(name, text, tree):
+            imported = {a.name for node in tree.body if isinstance(node, ast.ImportFrom) for a in node.names}
+            self.assertLessEqual(imported, {node.id for node in ast.walk(tree) if isinstance(node, ast.Name)})
+        self.each(check)
+
     def tree_of(self, name):
         return [tree for known, _, tree in sources() if known == name][0]
 

@@ -146,7 +146,8 @@ class WorkTest(SkyCase):
 
     def test_wrong_links(self):
         wrong = [tuple(LINKS), None, {}, "a", 1, True, LINKS[0], [list(LINKS[0])], [()], [None], LINKS + [None]]
-        wrong += [[("mesh", "a")], [("mesh", "a", "b", (0, 1))], [("joint", "x", "y")], [("mesh",)], [("link", "a", "b")]]
+        wrong += [[("mesh", "a")], [("mesh", "a", "b", (0, 1))], [("joint", "x", "y")]]
+        wrong += [[("mesh",)], [("link", "a", "b")]]
         wrong += [[("joint", "x", "y", (0, 1), 1)], [("Mesh", "a", "b")], [(None, "a", "b")], [(["mesh"], "a", "b")]]
         for name in NOT_NAMES:
             wrong += [[("mesh", name, "b")], [("mesh", "a", name)]]
@@ -509,6 +510,7 @@ class LoopJudgeTest(SkyCase):
         wrong += [[(0, 1), (0, -1)], right + [(0, 1)], tuple(right), [[0, 1], [1, 1], [2, 1]], [(0, 1), (1, 1), None]]
         wrong += [[(False, 1), (1, 1), (2, 1)], [(0, 1), (True, 1), (2, 1)], [(0, 1), (1, True), (2, 1)]]
         wrong += [[(0, 1), (1, 1), (-1, 1)], [(-3, 1), (1, 1), (2, 1)], [(0, 1), (1, 1), (3, 1)], [(0, 1, 0)] * 3]
+        wrong += [[None] + right[1:], [(3, 1)] + right[1:], [[0, 1]] + right[1:], [(0,)] + right[1:], [None]]
         for loop in wrong:
             self.assert_false(self.judge(loop))
 

@@ -33,8 +33,8 @@ def seeded_knots(seed, many, digits=2):
     source = random.Random(seed)
     found = []
     for _ in range(many):
-        places = sorted({Fraction(source.randint(1, 10 ** digits - 1), 10 ** digits) for _ in range(source.randint(0, 7))})
         top = 10 ** digits
+        places = sorted({Fraction(source.randint(1, top - 1), top) for _ in range(source.randint(0, 7))})
         lifts = [f(source.randint(-top, top), source.randint(1, top)) for _ in range(len(places) + 1)]
         found.append(list(zip([(0, 1)] + [f(place) for place in places], lifts)))
     return found

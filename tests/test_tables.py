@@ -162,7 +162,8 @@ class HeadsTest(SkyCase):
         for _ in range(60):
             heads = [source.randint(-LONG, LONG) for _ in range(source.randint(1, 9))]
             rows = self.assert_unchanged([heads], table_of, heads, count=60)
-            self.assertEqual(rows, [sum(head * math.comb(k, order) for order, head in enumerate(heads)) for k in range(60)])
+            expected = [sum(head * math.comb(k, order) for order, head in enumerate(heads)) for k in range(60)]
+            self.assertEqual(rows, expected)
             count = source.randint(0, 60)
             self.assertEqual(table_of(heads, count=count), rows[:count])
             self.assertLessEqual(degree_of(rows), len(heads) - 1)
@@ -194,8 +195,9 @@ class ContinuedTest(SkyCase):
     def test_just_degree_and_one_rows(self):
         for degree in range(9):
             values = [k ** degree - 3 * k for k in range(degree + 1)]
-            self.assertEqual(continued(values, degree=degree, count=4), slow_continued(values, degree, 4, False))
-            self.assertEqual(continued(values, degree=degree, count=4, back=True), slow_continued(values, degree, 4, True))
+            for back in (False, True):
+                rows = continued(values, degree=degree, count=4, back=back)
+                self.assertEqual(rows, slow_continued(values, degree, 4, back))
             if degree:
                 self.assert_mismatch(continued, values[1:], degree=degree, count=0)
                 self.assert_mismatch(continued, values[1:], degree=degree, count=4, back=True)
@@ -303,7 +305,8 @@ class StraightBoundTest(SkyCase):
     def test_beyond_the_table(self):
         # Continued by 4 and 10, it has at the index 2 the second difference 2 and the third one 1.
         self.assertEqual(straight_bound([0, 0, 0, 1], degree=3), (1, 3))
-        for values, degree in (([0, 0, 2], 2), ([0, 0, 0, 1], 3), ([5, 0, 0, 0, 1], 4), ([k ** 3 for k in range(60)], 8)):
+        cubes = [k ** 3 for k in range(60)]
+        for values, degree in (([0, 0, 2], 2), ([0, 0, 0, 1], 3), ([5, 0, 0, 0, 1], 4), (cubes, 8)):
             self.assertEqual(straight_bound(values, degree=degree), f(self.slow_bound(values, degree)))
 
     def test_seeded(self):

@@ -186,6 +186,7 @@ class FewestTrainTest(SkyCase):
         self.assertEqual(fewest_train((15, 2), least=2, most=15), [(15, 2)])
         self.assertEqual(fewest_train((15, 2), least=2, most=12), [(3, 2), (10, 2)])
         self.assertEqual(fewest_train((1, 1), least=5, most=5), [(5, 5)])
+        self.assertEqual(fewest_train((1, 1), least=1, most=1), [(1, 1)])
         self.assertEqual(fewest_train((1000, 1), least=1, most=10), [(10, 1), (10, 1), (10, 1)])
         self.assertEqual(fewest_train((1, 1000), least=1, most=10), [(1, 10), (1, 10), (1, 10)])
 
@@ -213,6 +214,8 @@ class FewestTrainTest(SkyCase):
     def test_no_train(self):
         self.assertIsNone(fewest_train((101, 1), least=1, most=100, scale=1))
         self.assertIsNone(fewest_train((10 ** 39, 1), least=1, most=100))
+        # Four pairs would do.
+        self.assertIsNone(fewest_train((10 ** 4, 1), least=1, most=10))
         self.assertIsNone(fewest_train((1, 10 ** 39), least=1, most=100, scale=8))
         self.assertIsNone(fewest_train((101, 103), least=1, most=100, scale=8))
 

@@ -1,6 +1,5 @@
 """The error of a motion against the one that it is meant to show."""
 
-from wheelsky.errors import TooMany
 from wheelsky.forms import is_list_within, is_tuple_of, require
 from wheelsky.motions import Motion
 from wheelsky.ratios import compare, distance_of, floor_of, fraction, is_fraction
