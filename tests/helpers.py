@@ -5,10 +5,12 @@ import unittest
 from fractions import Fraction
 
 from wheelsky.cycles import Cycle
+from wheelsky.darkening import Shade
 from wheelsky.dates import Calendar, TwinCalendar
 from wheelsky.errors import BadValue, Endless, Locked, Looped, Mismatch, NoName, Taken, TooMany
 from wheelsky.mixed import Mixed
 from wheelsky.motions import Motion
+from wheelsky.plans import Plan
 from wheelsky.shafts import Work
 from wheelsky.skies import Sky
 from wheelsky.slots import Slot
@@ -40,6 +42,7 @@ def nested(value, levels):
 
 def objects():
     """Return objects of the package."""
+    work = Work([("a", "x", 10), ("b", "y", 20)], [("mesh", "a", "b")], driver="x")
     return [
         Span((0, 1), (1, 1)),
         Cycle((1, 2)),
@@ -47,12 +50,14 @@ def objects():
         Sky([("a", Cycle((1, 2)))]),
         BadValue("x"),
         Mismatch(),
-        Work([("a", "x", 10), ("b", "y", 20)], [("mesh", "a", "b")], driver="x"),
+        work,
         Slot([((0, 1), (1, 2))]),
         Motion([((1, 1), Cycle((1, 2)), Slot([((0, 1), (0, 1))]))]),
         Calendar((0, 1), short=29),
         TwinCalendar(Calendar((0, 1), short=29), Calendar((0,), short=12)),
         Locked([(0, 1)]),
+        Shade(Cycle((0, 1)), Cycle((1, 3)), Cycle((1, 10)), width=(1, 5)),
+        Plan(Sky([]), [], work, [("m", "x", (0, 1), None, None)]),
     ]
 
 
@@ -113,6 +118,16 @@ class SkyCase(unittest.TestCase):
 
     def assert_looped(self, call, *given, **named):
         self.assert_error(Looped, {}, call, *given, **named)
+
+    def assert_locked(self, call, *given, **named):
+        """Check that the call raises Locked, and return its loop."""
+        try:
+            answer = call(*given, **named)
+        except Locked as caught:
+            self.assertIs(type(caught), Locked)
+            self.assertIs(caught.loop, caught.loop)
+            return caught.loop
+        self.fail(f"Locked was due, but the answer was {answer!r}")
 
     def assert_no_name(self, name, call, *given, **named):
         self.assert_error(NoName, {"name": name}, call, *given, **named)

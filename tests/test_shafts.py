@@ -252,16 +252,6 @@ class PathTest(SkyCase):
 
 
 class LockTest(SkyCase):
-    def locked(self, call, *given):
-        """Check that Locked is raised, and return its loop."""
-        try:
-            answer = call(*given)
-        except Locked as caught:
-            self.assertIs(type(caught), Locked)
-            self.assertIs(caught.loop, caught.loop)
-            return caught.loop
-        self.fail(f"Locked was due, but the answer was {answer!r}")
-
     def test_rings(self):
         loop = RING.lock_loop()
         self.assertTrue(slow_is_loop(RING, loop))
@@ -294,8 +284,8 @@ class LockTest(SkyCase):
 
     def check_errors(self, work):
         """Check the errors of a locked work, and that no two of them share a loop."""
-        loops = [self.locked(work.shaft_rate, shaft) for shaft in work.shafts()]
-        loops += [self.locked(work.ways), self.locked(work.ways)]
+        loops = [self.assert_locked(work.shaft_rate, shaft) for shaft in work.shafts()]
+        loops += [self.assert_locked(work.ways), self.assert_locked(work.ways)]
         for loop in loops:
             self.assertTrue(slow_is_loop(work, loop))
         right = [list(loop) for loop in loops]
@@ -317,12 +307,12 @@ class LockTest(SkyCase):
         self.assertEqual(RING.lock_loop(), mine)
         mine.clear()
         self.assertTrue(slow_is_loop(RING, RING.lock_loop()))
-        self.assertNotIn("more", self.locked(RING.ways))
+        self.assertNotIn("more", self.assert_locked(RING.ways))
 
     def test_locked_for_every_shaft(self):
         more = Work(RING.wheels + [("d", "w", 10)], RING.links, driver="x")
         for shaft in ("x", "y", "z", "w"):
-            self.locked(more.shaft_rate, shaft)
+            self.assert_locked(more.shaft_rate, shaft)
         self.assertIsNone(more.path("w"))
         self.assert_no_name("q", more.shaft_rate, "q")
         self.assert_bad("shaft", more.shaft_rate, "Q")

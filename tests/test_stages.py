@@ -6,14 +6,21 @@ from fractions import Fraction
 
 from tests.helpers import SkyCase, f, num
 from tests.test_approx import seeded_values
+from tests.test_darkening import seeded_shades
 from tests.test_leaps import slow_error, slow_word
+from tests.test_plans import seeded_plans
 from tests.test_shafts import seeded_works
 from wheelsky.approx import convergents, is_nearest_paper, nearest, nearest_paper
 from wheelsky.cycles import Cycle
+from wheelsky.darkening import Shade, next_dark, roll
 from wheelsky.dates import Calendar, TwinCalendar, calendar_error
 from wheelsky.drift import error_paper, good_until, greatest_error, paper_error
+from wheelsky.faults import find_fault, mended
 from wheelsky.leaps import best_word, leap_rule, leap_word, word_error
+from wheelsky.meetings import meeting_witness, meetings
 from wheelsky.motions import Motion, even_motion
+from wheelsky.nearness import is_near, near_spans
+from wheelsky.series import best_returns, is_series, series_of
 from wheelsky.shafts import Work
 from wheelsky.slots import Slot
 from wheelsky.spans import Span
@@ -177,3 +184,90 @@ class TablesTest(SkyCase):
         self.assertEqual(continued(more, degree=8, count=60, back=True), values)
         value = reading(more, (1, 10 ** 39), degree=8)
         self.assert_true(is_nearest_paper(value, nearest_paper(value, most=9), most=9))
+
+
+class DarkeningTest(SkyCase):
+    def test_a_roll_has_the_meetings(self):
+        """[20] [53]."""
+        for shade in seeded_shades(8, 50):
+            begin = num(shade.interval) * -3
+            span = Span(f(begin), f(begin + 11 * num(shade.interval) + 1))
+            rows = roll(shade, span) if num(shade.interval) > Fraction(1, 300) else None
+            if rows is not None:
+                self.assertEqual([row[1] for row in rows], meetings([shade.light, shade.cover], span))
+                for _, moment, _, _ in rows:
+                    self.assertIsNotNone(meeting_witness([shade.light, shade.cover], moment))
+
+    def test_dark_meetings_are_near(self):
+        """[22] [53]: the node is near the light at a dark meeting and far at any other."""
+        dark = bright = 0
+        for shade in seeded_shades(9, 60):
+            span = Span((0, 1), f(num(shade.interval) * 9))
+            cycles = [shade.light, shade.node]
+            if abs(num(shade.node.rate) - num(shade.light.rate)) * num(span.length) > 150:
+                continue
+            spans = near_spans(cycles, span, width=shade.width)
+            for _, moment, _, is_dark in roll(shade, span):
+                self.assertIs(any(moment in row for row in spans), is_dark)
+                self.assertIs(is_near(cycles, moment, width=shade.width), is_dark)
+                dark, bright = dark + is_dark, bright + (not is_dark)
+        self.assertGreater(min(dark, bright), 30)
+
+    def test_best_returns_of_a_convergent(self):
+        """[24] [57]."""
+        for shade in seeded_shades(10, 60):
+            for most in (1, 30, 1000):
+                answer = best_returns(shade, most=most)
+                self.assertIn(answer, [row[1] for row in convergents(shade.gain)])
+                self.assertLessEqual(answer, most)
+
+    def test_series_of_the_best_returns(self):
+        """[54] [57]: the better the returns, the longer the series."""
+        shade = Shade(Cycle((1, 365)), Cycle((1, 27)), Cycle((-1, 6793)), width=(1, 20))
+        lengths = []
+        for most in (5, 50, 500):
+            returns = best_returns(shade, most=most)
+            number = next_dark(shade, 0)
+            first, last = series_of(shade, number, returns=returns)
+            self.assert_true(is_series(shade, (first, last), returns=returns))
+            lengths.append((last - first) // returns)
+        self.assertEqual(lengths, sorted(set(lengths)))
+
+
+class FaultsTest(SkyCase):
+    def test_a_mended_table_goes_on_as_the_sound_one(self):
+        """[48] [51]."""
+        source = random.Random(11)
+        for degree in range(9):
+            values = [sum(k ** order * (order - 3) for order in range(degree + 1)) for k in range(degree + 20)]
+            begin, end = values[:degree + 8], values[degree + 8:]
+            row = source.randrange(len(begin))
+            wrong = begin[:row] + [begin[row] + source.choice((-5, 1, 10 ** 39))] + begin[row + 1:]
+            self.assertEqual(continued(mended(wrong, degree=degree), degree=degree, count=12), end)
+            self.assertEqual(continued(mended(begin, degree=degree), degree=degree, count=12), end)
+
+    def test_a_cycle_table_with_a_slip(self):
+        """[47] [51]."""
+        unit, values = cycle_table(Cycle((7, 12), (1, 5)), day=-4, count=9)
+        self.assertEqual(find_fault(values, degree=1), ("sound",))
+        for row in range(9):
+            slip = values[:row] + [values[row] + unit] + values[row + 1:]
+            self.assertEqual(find_fault(slip, degree=1), ("fault", row, values[row]))
+            self.assertEqual(mended(slip, degree=1), values)
+
+
+class PlansTest(SkyCase):
+    def test_pointers_without_a_slot(self):
+        """[33] [59]: start + rate * pace * moment."""
+        checked = 0
+        for plan in seeded_plans(12, 80):
+            if plan.work.lock_loop() is not None:
+                continue
+            for name, shaft, start, slot, _ in plan.dials:
+                rate = plan.work.shaft_rate(shaft)
+                if slot is None and rate is not None:
+                    for moment in ((0, 1), (-22, 7), (10 ** 39, 1)):
+                        turns = num(start) + num(rate) * num(plan.pace) * num(moment)
+                        self.assertEqual(plan.pointer(name).turns(moment), f(turns))
+                        checked += 1
+        self.assertGreater(checked, 60)

@@ -20,7 +20,7 @@ class Work:
         require(is_name(driver), "driver")
         refuse_repeated([wheel for wheel, _, _ in wheels])
         # For each link: its first shaft, its second one, and the factor of the step ahead.
-        self._legs = tuple([_leg_of(link, wheels) for link in links])
+        self._legs = tuple([leg_of(link, wheels) for link in links])
         self._wheels = tuple(wheels)
         self._links = tuple(links)
         self.driver = driver
@@ -68,7 +68,7 @@ class Work:
     def shaft_rate(self, shaft):
         """Return the turns of the shaft for one turn of the driver, or None if it is loose."""
         path = self.path(shaft)
-        _refuse_locked(self)
+        refuse_locked(self)
         return None if path is None else _product(self, path)
 
     def ways(self):
@@ -120,6 +120,39 @@ def is_lock_loop(work, loop):
     return _product(work, loop) != ONE
 
 
+def is_teeth(value):
+    """Tell whether the value is a number of teeth."""
+    return is_whole_within(value, 1, MOST_TEETH)
+
+
+def is_play(value):
+    """Tell whether the value is a play: a fraction of 0 or more."""
+    return is_fraction(value) and value[0] >= 0
+
+
+def leg_of(link, wheels):
+    """Return the two shafts that a link joins and the factor from the first to the second."""
+    leg = _mesh_leg(link, wheels) if link[0] == "mesh" else _joint_leg(link, wheels)
+    if leg[0] == leg[1]:
+        raise Mismatch()
+    return leg
+
+
+def wheel_called(name, wheels):
+    """Return the row of the wheel with this name."""
+    for row in wheels:
+        if row[0] == name:
+            return row
+    raise NoName(name)
+
+
+def refuse_locked(work):
+    """Raise Locked if the work is locked."""
+    loop = work.lock_loop()
+    if loop is not None:
+        raise Locked(loop)
+
+
 def _are_wheels(value):
     return is_list_within(value, 1, MOST_WHEELS) and all([_is_wheel(row) for row in value])
 
@@ -127,7 +160,7 @@ def _are_wheels(value):
 def _is_wheel(value):
     if not is_tuple_of(value, 3):
         return False
-    return is_name(value[0]) and is_name(value[1]) and is_whole_within(value[2], 1, MOST_TEETH)
+    return is_name(value[0]) and is_name(value[1]) and is_teeth(value[2])
 
 
 def _are_links(value):
@@ -138,7 +171,7 @@ def _is_link(value):
     if is_tuple_of(value, 3) and value[0] == "mesh":
         return is_name(value[1]) and is_name(value[2])
     if is_tuple_of(value, 4) and value[0] == "joint":
-        return is_name(value[1]) and is_name(value[2]) and is_fraction(value[3]) and value[3][0] >= 0
+        return is_name(value[1]) and is_name(value[2]) and is_play(value[3])
     return False
 
 
@@ -148,25 +181,10 @@ def _is_step(value):
     return value[0] >= 0 and value[1] in (1, -1)
 
 
-def _leg_of(link, wheels):
-    """Return the two shafts that a link joins and the factor from the first to the second."""
-    leg = _mesh_leg(link, wheels) if link[0] == "mesh" else _joint_leg(link, wheels)
-    if leg[0] == leg[1]:
-        raise Mismatch()
-    return leg
-
-
 def _mesh_leg(link, wheels):
-    _, begin, near_teeth = _wheel_called(link[1], wheels)
-    _, end, far_teeth = _wheel_called(link[2], wheels)
+    _, begin, near_teeth = wheel_called(link[1], wheels)
+    _, end, far_teeth = wheel_called(link[2], wheels)
     return (begin, end, fraction(-near_teeth, far_teeth))
-
-
-def _wheel_called(name, wheels):
-    for row in wheels:
-        if row[0] == name:
-            return row
-    raise NoName(name)
 
 
 def _joint_leg(link, wheels):
@@ -264,9 +282,3 @@ def _is_looped(work):
 def _refuse_unknown(work, shaft):
     if shaft not in work.shafts():
         raise NoName(shaft)
-
-
-def _refuse_locked(work):
-    loop = work.lock_loop()
-    if loop is not None:
-        raise Locked(loop)
