@@ -15,6 +15,7 @@ from wheelsky.shafts import Work
 from wheelsky.skies import Sky
 from wheelsky.slots import Slot
 from wheelsky.spans import Span
+from wheelsky.workshop import Workshop, built
 
 
 def f(numerator, denominator=1):
@@ -58,6 +59,8 @@ def objects():
         Locked([(0, 1)]),
         Shade(Cycle((0, 1)), Cycle((1, 3)), Cycle((1, 10)), width=(1, 5)),
         Plan(Sky([]), [], work, [("m", "x", (0, 1), None, None)]),
+        Workshop(),
+        built(work),
     ]
 
 

@@ -34,7 +34,7 @@ class ExamplesTest(unittest.TestCase):
                 self.assertEqual(told(example, names), example.want)
 
     def test_document(self):
-        self.check(TESTS / "examples.txt", 94)
+        self.check(TESTS / "examples.txt", 124)
 
     def test_readme(self):
-        self.check(TESTS.parent / "README.md", 28)
+        self.check(TESTS.parent / "README.md", 38)

@@ -79,6 +79,13 @@ def top_names(tree):
     return names
 
 
+class FunctionsAsWords(ast.NodeTransformer):
+    """Puts a string in place of each name."""
+
+    def visit_Name(self, node):
+        return ast.Constant(node.id)
+
+
 class FormTest(unittest.TestCase):
     def each(self, check):
         for name, text, tree in sources():
@@ -148,7 +155,10 @@ class FormTest(unittest.TestCase):
                 self.assertIsInstance(node, (ast.ImportFrom, ast.FunctionDef, ast.ClassDef, ast.Assign))
                 if isinstance(node, ast.Assign):
                     self.assertEqual([type(target) for target in node.targets], [ast.Name])
-                    ast.literal_eval(node.value)
+                    above = {row.name for row in tree.body[:at] if isinstance(row, ast.FunctionDef)}
+                    self.assertLessEqual({row.id for row in ast.walk(node.value) if isinstance(row, ast.Name)}, above)
+                    # A function that is defined above may stand in a table.
+                    ast.literal_eval(FunctionsAsWords().visit(node.value))
             names = top_names(tree)
             self.assertEqual(len(names), len(set(names)))
         self.each(check)
