@@ -101,6 +101,13 @@ class DialSetsTest(FindingCase):
         self.assertEqual(dial_sets(work, [("break", 0)], ["s1", "s2"], by=(-1, 1)), [(0,), ()])
         self.assertEqual(dial_sets(work, [("break", 0)], ["s1", "s2"], by=(1, 1)), [(0,), (0,)])
 
+    def test_by_is_one_turn_if_it_is_left_out(self):
+        for play, rows in (((3, 4), [(0,)]), ((1, 1), [()]), ((3, 2), [()])):
+            work = Work(chain(3), [("joint", "s0", "s1", play), ("mesh", "w1", "w2")], driver="s0")
+            self.assertEqual(dial_sets(work, [("break", 1)], ["s2"]), rows)
+            self.assertEqual(dial_sets(work, [("break", 1)], ["s2"], by=(2, 1)), [(0,)])
+            self.assertEqual(dial_sets(work, [("break", 1)], ["s2"], by=(1, 2)), [()])
+
     def test_a_driver_in_the_middle(self):
         work = Work(WORK.wheels, WORK.links, driver="s2")
         self.assertEqual(dial_sets(work, SUSPECTS, ["s0", "s1", "s2", "s3"]), [(0, 1), (1,), (), (2,)])

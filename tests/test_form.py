@@ -5,6 +5,7 @@ The numbers L1 to L28 are those of the rules.
 
 import ast
 import builtins
+import re
 import unittest
 from pathlib import Path
 
@@ -43,6 +44,11 @@ VALUE_METHODS = set(
     "items keys values pop update append clear extend insert remove reverse setdefault sort args encode decode hex"
     " fromhex format as_integer_ratio bit_count conjugate from_bytes is_integer to_bytes numerator denominator real"
     " imag bit_length difference intersection union isdisjoint issubset issuperset popitem".split()
+)
+VALUE_CALLS = set(
+    "append clear copy count endswith extend find get index insert isalnum isalpha isdigit islower isspace isupper items"
+    " join keys ljust lower lstrip partition pop remove replace reverse rfind rjust rpartition rsplit rstrip setdefault"
+    " split splitlines startswith strip update upper values zfill bit_length removeprefix removesuffix".split()
 )
 
 
@@ -195,6 +201,64 @@ class FormTest(unittest.TestCase):
                     self.assertEqual(set(methods) & VALUE_METHODS, set())
                 if isinstance(node, ast.Attribute) and isinstance(node.ctx, ast.Store):
                     self.assertNotIn(node.attr, VALUE_METHODS)
+        self.each(check)
+
+    def test_methods_called(self):
+        """L25: those of the package, and those of builtin values that are allowed."""
+        own = {row.name for _, _, tree in sources() for node in ast.walk(tree) if isinstance(node, ast.ClassDef)
+               for row in node.body if isinstance(row, ast.FunctionDef)}
+
+        def check(name, text, tree):
+            for node in ast.walk(tree):
+                if isinstance(node, ast.Call) and isinstance(node.func, ast.Attribute):
+                    self.assertIn(node.func.attr, own | VALUE_CALLS)
+        self.each(check)
+
+    def test_methods_and_attributes(self):
+        """L18: no name is both in one class, and each attribute that is read is assigned."""
+        assigned, methods = set(), set()
+        for _, _, tree in sources():
+            for node in ast.walk(tree):
+                if isinstance(node, ast.ClassDef):
+                    names = {row.name for row in node.body if isinstance(row, ast.FunctionDef)}
+                    stored = {row.attr for row in ast.walk(node)
+                              if isinstance(row, ast.Attribute) and isinstance(row.ctx, ast.Store)}
+                    self.assertEqual(names & stored, set())
+                    methods |= names
+                    assigned |= stored
+
+        def check(name, text, tree):
+            for node in ast.walk(tree):
+                if isinstance(node, ast.Attribute):
+                    self.assertIn(node.attr, assigned | methods | VALUE_CALLS)
+        self.each(check)
+
+    def test_words_in_strings(self):
+        """L17 L27."""
+        def check(name, text, tree):
+            docs = {id(node.body[0].value) for node in ast.walk(tree)
+                    if isinstance(node, (ast.Module, ast.ClassDef, ast.FunctionDef))
+                    and node.body and isinstance(node.body[0], ast.Expr)}
+            for node in ast.walk(tree):
+                if isinstance(node, ast.Constant) and isinstance(node.value, str) and id(node) not in docs:
+                    self.assertEqual(set(re.findall("[A-Za-z_]+", node.value)) & (BANNED_WORDS | {"type"}), set())
+                    self.assertFalse(node.value.startswith("__") or node.value.endswith(("._", ".__")))
+        self.each(check)
+
+    def test_loops_leave_what_they_go_over(self):
+        """L23: as far as the names show."""
+        changing = {"append", "extend", "insert", "pop", "remove", "clear", "reverse", "setdefault", "update"}
+
+        def check(name, text, tree):
+            for node in ast.walk(tree):
+                if not isinstance(node, ast.For):
+                    continue
+                over = {ast.unparse(part) for part in ast.walk(node.iter) if isinstance(part, (ast.Name, ast.Attribute))}
+                for row in [part for line in node.body for part in ast.walk(line)]:
+                    if isinstance(row, ast.Call) and isinstance(row.func, ast.Attribute) and row.func.attr in changing:
+                        self.assertNotIn(ast.unparse(row.func.value), over)
+                    if isinstance(row, ast.Subscript) and isinstance(row.ctx, ast.Store):
+                        self.assertNotIn(ast.unparse(row.value), over)
         self.each(check)
 
     def test_operators_change_nothing_by_plus_equals(self):

@@ -443,7 +443,7 @@ class TogetherTest(ReaderCase):
         at = source.randrange(len(lines))
         row = lines[at].split(" ")
         choice = source.randrange(6)
-        if row[0] in ("mesh", "joint") and choice < 3:
+        if row[0] in ("mesh", "joint") and len(row) > 2 and choice < 3:
             lines[at] = " ".join(row[:2] + [row[1]] + row[3:])
             return
         if choice == 0:

@@ -217,6 +217,14 @@ class IsSeriesTest(SkyCase):
         self.assert_true(is_series(shade, (9, 11), returns=1))
         self.assert_false(is_series(shade, (-1, 11), returns=1))
 
+    def test_not_a_multiple_apart(self):
+        # All is well with these two but that they are of two families.
+        shade = daily(Fraction(1, 3), Fraction(0))
+        self.assert_true(is_series(shade, (0, 0), returns=5))
+        self.assert_true(is_series(shade, (3, 3), returns=5))
+        for answer in ((0, 3), (3, 0), (0, 9), (-3, 0), (0, -6)):
+            self.assert_false(is_series(shade, answer, returns=5))
+
     def test_true_and_false(self):
         shade = daily(Fraction(3, 10), Fraction(0))
         self.assert_true(is_series(shade, (0, 0), returns=1))

@@ -4,7 +4,7 @@ from wheelsky.darkening import Shade, roll
 from wheelsky.dates import Calendar, TwinCalendar
 from wheelsky.drift import good_until, greatest_error
 from wheelsky.errors import Mismatch, TooMany
-from wheelsky.forms import is_name, is_whole_within, require
+from wheelsky.forms import is_whole_within, require
 from wheelsky.motions import even_motion
 from wheelsky.plans import Plan, dial_called, slot_of
 from wheelsky.ratios import floor_of, is_fraction, lesser, part_of, plus
@@ -50,7 +50,6 @@ def dial_place(plan, shop, dial):
     """Return the place that a dial of the plan shows in the workshop."""
     require(isinstance(plan, Plan), "plan")
     require(isinstance(shop, Workshop), "shop")
-    require(is_name(dial), "dial")
     _, shaft, start, _, _ = dial_called(plan, dial)
     return part_of(slot_of(plan, dial).carried(plus(start, shop.amount(shaft))))
 
@@ -59,7 +58,6 @@ def dark_dates(shade, calendar, span):
     """Return the tuples (number, date) of the dark meetings in the span."""
     require(isinstance(shade, Shade), "shade")
     require(isinstance(calendar, Calendar) or isinstance(calendar, TwinCalendar), "calendar")
-    require(isinstance(span, Span), "span")
     return [(number, calendar.date_of(floor_of(moment))) for number, moment, _, dark in roll(shade, span) if dark]
 
 

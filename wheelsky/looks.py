@@ -146,12 +146,10 @@ def _is_row(value, suspects):
 
 
 def _is_borne_out(group, need, dials, shown):
-    """Tell whether each dial parts the group so that a part has at least a need of one less.
+    """Tell whether some dial parts the group, and each that does leaves a part with a need of one less.
 
-    `shown` has the greatest need of each group that earlier rows have.
+    `shown` has the greatest need of each group that earlier rows have; every other need is at least 0.
     """
     partings = _partings(group, dials)
-    if need == 1:
-        return len(partings) >= 1
     enough = [max(shown.get(wrong, 0), shown.get(right, 0)) >= need - 1 for _, wrong, right in partings]
-    return len(enough) >= 1 and all(enough)
+    return len(partings) >= 1 and all(enough)

@@ -45,7 +45,6 @@ def series_members(shade, number, *, returns):
 
 def is_series(shade, answer, *, returns):
     """Judge whether the answer is the first and the last number of a series."""
-    require(isinstance(shade, Shade), "shade")
     shift = _moving_shift(shade, returns)
     if not is_tuple_of(answer, 2) or not all([is_whole(number) for number in answer]):
         return False
